@@ -1,12 +1,11 @@
 """The calls by which people and families come, move and go: born, split, found, close, adopt, leave."""
 
 from kinfolds.forms import in_range
-from kinfolds.kept import FAMILY
+from kinfolds.kept import DEEPEST
 from kinfolds.meetings import all_mustered, set_off
 from kinfolds.refusals import BAD_LIST, LIVES_ALREADY, NO_SUCH_FAMILY, NOT_AS_IT_IS, OWN_FAMILY, TOO_DEEP
 
 MOST_IDS = 100
-DEEPEST = 40
 
 
 def born(kept, x):
@@ -43,13 +42,11 @@ def found_within(kept, x):
     refusal = kept.hindrance(x)
     if refusal != 0:
         return [refusal]
-    outer = kept.people[x].family
+    outer = kept.family_of(x)
     if kept.depth(outer) == DEEPEST:
         return [TOO_DEEP]
-    serial = kept.people[x].serial
-    number = kept.begin_family(outer, serial)
-    kept.families[outer].children[serial] = (FAMILY, number)
-    kept.enter(x, number)
+    # The new family stands where x stood, with x's serial.
+    kept.enter(x, kept.begin_family(outer, kept.people[x].serial))
     return [0, 0]
 
 

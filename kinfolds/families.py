@@ -3,36 +3,12 @@
 from kinfolds.changes import adopt, born, close_family, found_within, leave, split_off
 from kinfolds.forms import all_in_range, count_of_lists, count_of_numbers
 from kinfolds.kept import Kept
+from kinfolds.loading import clear_all, load
 from kinfolds.meetings import assemble, gather, match_pair, muster, recall
-from kinfolds.questions import tell_family, tell_person
+from kinfolds.overviews import tell_all, tell_at, tell_counts, tell_roots, tell_waiting
+from kinfolds.questions import tell_alike, tell_family, tell_kin, tell_line, tell_members, tell_path, tell_person
+from kinfolds.reading import Reader
 from kinfolds.refusals import OUT_OF_RANGE
-
-
-class Reader:
-    """Reads the handed-in numbers from the front on, and leaves them as they are."""
-
-    def __init__(self, numbers):
-        self.numbers = numbers
-        self.spot = 0
-
-    def is_at_end(self):
-        return self.spot >= len(self.numbers)
-
-    def take_one(self):
-        number = self.numbers[self.spot]
-        self.spot = self.spot + 1
-        return number
-
-    def take_row(self, length):
-        row = self.numbers[self.spot:self.spot + length]
-        self.spot = self.spot + length
-        return row
-
-    def take_lists(self, how_many):
-        lists = []
-        for turn in range(how_many):
-            lists.append(self.take_row(self.take_one()))
-        return lists
 
 
 def answers(calls):
@@ -56,7 +32,13 @@ def answer_next(kept, reader):
         return change(kept, place, numbers, lists)
     if place <= 10:
         return meet(kept, place, numbers)
-    return ask(kept, place, numbers)
+    if place <= 17:
+        return ask(kept, place, numbers)
+    if place == 22:
+        return load(kept, numbers[0], lists[0], lists[1])
+    if place == 23:
+        return clear_all(kept)
+    return ask_of_all(kept, place, numbers)
 
 
 def change(kept, place, numbers, lists):
@@ -90,4 +72,26 @@ def meet(kept, place, numbers):
 def ask(kept, place, numbers):
     if place == 11:
         return tell_person(kept, numbers[0])
-    return tell_family(kept, numbers[0])
+    if place == 12:
+        return tell_family(kept, numbers[0])
+    if place == 13:
+        return tell_members(kept, numbers[0])
+    if place == 14:
+        return tell_path(kept, numbers[0])
+    if place == 15:
+        return tell_kin(kept, numbers[0], numbers[1])
+    if place == 16:
+        return tell_line(kept, numbers[0])
+    return tell_alike(kept, numbers[0], numbers[1])
+
+
+def ask_of_all(kept, place, numbers):
+    if place == 18:
+        return tell_waiting(kept)
+    if place == 19:
+        return tell_at(kept, numbers[0])
+    if place == 20:
+        return tell_roots(kept)
+    if place == 21:
+        return tell_all(kept)
+    return tell_counts(kept)

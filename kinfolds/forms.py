@@ -14,9 +14,21 @@ FIRST_ROWS = {
     10: ("person",),
     11: ("person",),
     12: ("family",),
+    13: ("family",),
+    14: ("person",),
+    15: ("person", "person"),
+    16: ("family",),
+    17: ("family", "family"),
+    18: (),
+    19: ("place",),
+    20: (),
+    21: (),
+    22: ("family",),
+    23: (),
+    24: (),
 }
 
-LISTS = {1: 1}
+LISTS = {1: 1, 22: 2}
 
 LOWEST = {"person": 1, "family": 1, "place": 0, "count": 1}
 

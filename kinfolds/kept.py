@@ -6,6 +6,8 @@ from kinfolds.refusals import LIVES_NOT, WAITS
 PERSON = 0
 FAMILY = 1
 
+DEEPEST = 40
+
 
 class Person:
     def __init__(self, family, serial):
@@ -14,15 +16,12 @@ class Person:
 
 
 class Family:
-    """children: by serial, a pair of the sort and the id or number.
+    """children: by serial, a pair of the sort and the id or number."""
 
-    A serial is either new, and then the greatest, or taken over in its place: so they stand by rising serials.
-    """
-
-    def __init__(self, parent, serial):
+    def __init__(self, parent, serial, next_serial):
         self.parent = parent
         self.serial = serial
-        self.next_serial = 0
+        self.next_serial = next_serial
         self.children = {}
 
 
@@ -42,14 +41,27 @@ class Kept:
         self.waits = {}
         self.next_number = 1
 
+    def become(self, other):
+        """Keeps what the other keeps, and nothing of what was kept before."""
+        self.people = other.people
+        self.families = other.families
+        self.waits = other.waits
+        self.next_number = other.next_number
+
     def family_of(self, x):
         return self.people[x].family
 
     def begin_family(self, parent, serial):
+        """Begins a family that its first person is still to enter, and gives back its number."""
         number = self.next_number
-        self.families[number] = Family(parent, serial)
+        self.put_family(number, parent, serial, 0)
         self.next_number = number + 1
         return number
+
+    def put_family(self, number, parent, serial, next_serial):
+        self.families[number] = Family(parent, serial, next_serial)
+        if parent != 0:
+            self.families[parent].children[serial] = (FAMILY, number)
 
     def enter(self, x, number):
         family = self.families[number]
@@ -73,12 +85,21 @@ class Kept:
                 self.families[family.parent].children.pop(family.serial)
             number = family.parent
 
-    def depth(self, number):
-        steps = 0
+    def children_of(self, number):
+        """For each child, by rising serials: the serial, the sort, and the id or number."""
+        children = self.families[number].children
+        return [(serial, children[serial][0], children[serial][1]) for serial in sorted(children)]
+
+    def families_around(self, number):
+        """The number of the family itself, of its parent, of that one's parent, and so on."""
+        around = []
         while number != 0:
-            steps = steps + 1
+            around.append(number)
             number = self.families[number].parent
-        return steps
+        return around
+
+    def depth(self, number):
+        return len(self.families_around(number))
 
     def hindrance(self, x):
         """The refusal that's due where x must live and not wait, or 0."""

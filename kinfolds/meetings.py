@@ -72,11 +72,16 @@ def match_pair(kept, x, place, other_place):
     refusal = kept.hindrance(x)
     if refusal != 0:
         return [refusal]
-    for y in kin_at(kept, x, MATCH, other_place):
-        if kept.waits[y].number == place:
-            return [0] + set_off(kept, [y, x])
+    fitting = partners(kept, x, place, other_place)
+    if len(fitting) > 0:
+        return [0] + set_off(kept, [fitting[0], x])
     come_to_wait(kept, x, MATCH, place, other_place)
     return [1]
+
+
+def partners(kept, x, place, other_place):
+    """Those of x's family who wait at the other place for one at this place, in order of coming."""
+    return [y for y in kin_at(kept, x, MATCH, other_place) if kept.waits[y].number == place]
 
 
 def muster(kept, x, place):

@@ -62,6 +62,84 @@ def family(f):
     return [12, f]
 
 
+def members(f):
+    return [13, f]
+
+
+def path(x):
+    return [14, x]
+
+
+def kin(x, y):
+    return [15, x, y]
+
+
+def line(f):
+    return [16, f]
+
+
+def alike(f, g):
+    return [17, f, g]
+
+
+def waiting():
+    return [18]
+
+
+def at(p):
+    return [19, p]
+
+
+def roots():
+    return [20]
+
+
+def told():
+    return [21]
+
+
+def load(n, forest=(), waits=()):
+    return [22, n, len(forest)] + list(forest) + [len(waits)] + list(waits)
+
+
+def clear():
+    return [23]
+
+
+def counts():
+    return [24]
+
+
+def one(serial, x):
+    """A person as the forest tells it."""
+    return [serial, 0, x]
+
+
+def inner(serial, family_told):
+    """A family within another as the forest tells it."""
+    return [serial, 1] + family_told
+
+
+def tree(number, next_serial, *children):
+    return [number, next_serial, len(children)] + joined(children)
+
+
+def chain(depth, first=1, *others):
+    """Families within one another, numbered from the first on; the others and the person 1 belong to the innermost."""
+    family_told = tree(first + depth - 1, 1 + len(others), one(0, 1), *others)
+    for number in range(first + depth - 2, first - 1, -1):
+        family_told = tree(number, 1, inner(0, family_told))
+    return family_told
+
+
+def load_of(answer):
+    """The call that loads what told answered."""
+    end = 2 + answer[1]
+    if answer[end] != len(answer) - end - 1:
+        raise AssertionError("the lengths told don't fit")
+    return load(answer[0], answer[2:end], answer[end + 1:])
+
+
 def joined(calls):
     return [number for call in calls for number in call]
 
@@ -90,8 +168,15 @@ def off(*ids):
     return [0, len(ids)] + list(ids)
 
 
-# What can be seen of the people 1 to 9 and the families 1 to 9, and then of the next number.
-LOOK = [person(x) for x in range(1, 10)] + [family(f) for f in range(1, 10)] + [born(900), person(900)]
+# What can be seen of the people 1 to 9 and the families 1 to 9, of all together, and then of the next number.
+LOOK = [person(x) for x in range(1, 10)] + [family(f) for f in range(1, 10)] + [
+    told(), counts(), born(900), person(900),
+]
+
+OUT_OF_IDS = (0, -1, TOP_ID + 1, HUGE, -HUGE)
+OUT_OF_PLACES = (-1, 1000, HUGE, -HUGE)
+# The range of families' numbers ends where that of all numbers ends.
+OUT_OF_NUMBERS = (0, -1, -HUGE)
 
 
 class Calls(unittest.TestCase):

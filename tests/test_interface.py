@@ -1,16 +1,21 @@
 """What `answers` is handed and gives back."""
 
+import sys
 import unittest
 
 from kinfolds.families import answers
 from tests.helping import (
-    HUGE, adopt, assemble, born, close, family, found, gather, joined, leave, match, muster, person, recall, run, split,
+    HUGE, adopt, alike, assemble, at, born, chain, clear, close, counts, family, found, gather, inner, joined, kin,
+    leave, line, load, match, members, muster, one, path, person, recall, roots, run, split, told, tree, waiting,
 )
 
 ALL_CALLS = [
     born(1), split(1, 2, 3, 4, 5, 6), found(2), found(2), close(2), born(9), adopt(9, 1), assemble(1, 0, 2),
     assemble(3, 0, 2), gather(1, 0, 2), gather(4, 0, 2), match(1, 0, 1), match(4, 1, 0), muster(1, 0), recall(1),
     person(1), family(1), leave(6), split(1, 1, 1), born(-HUGE), family(HUGE),
+    members(1), path(2), kin(2, 9), line(1), alike(1, 2), muster(1, 5), waiting(), at(5), roots(), told(), counts(),
+    load(3, [9]), load(9, tree(1, 4, one(0, 5), inner(2, tree(8, 9, one(3, 6), one(7, 7)))), [6, 2, 7, 3]), told(),
+    split(7, 8), gather(8, 7, 2), leave(5), line(1), clear(), counts(), load(2, tree(1, 1, one(0, 1)), [1, 3, 0, 1]),
 ]
 
 
@@ -44,6 +49,7 @@ class Interface(unittest.TestCase):
 
     def test_a_second_time_knows_nothing_of_the_first(self):
         first = answers(joined(ALL_CALLS))
+        self.assertEqual(answers(told() + counts()), [3, 1, 0, 0, 5, 0, 0, 1, 0, 0])
         self.assertEqual(answers(person(1) + family(1) + recall(1)), [1, -10, 1, -6, 1, -10])
         self.assertEqual(answers(born(1) + person(1)), [2, 0, 0, 5, 1, 0, 0, 0, 0])
         self.assertEqual(answers(joined(ALL_CALLS)), first)
@@ -54,6 +60,7 @@ class Interface(unittest.TestCase):
         self.assertEqual({type(number) for number in given}, {int})
 
     def test_one_answer_for_each_call_with_its_count_ahead(self):
+        self.assertEqual({call[0] for call in ALL_CALLS}, set(range(25)))
         self.assertEqual(len(run(*ALL_CALLS)), len(ALL_CALLS))
         self.assertEqual(answers([5, 1]), [1, -10])
 
@@ -75,6 +82,39 @@ class Interface(unittest.TestCase):
         calls = [born(x) for x in range(1, 51)] + [found(x) for x in range(1, 51)] + [adopt(x, 1) for x in range(2, 51)]
         given = run(*calls, family(1))
         self.assertEqual(given[-1], [0, 0, 50, 49, 1, 50])
+
+    def test_the_largest_answers(self):
+        people = [one(serial, serial + 1) for serial in range(499)]
+        calls = [load(2, tree(1, HUGE, *people))]
+        for turn in range(49):
+            calls += [told(), members(1), line(1)]
+        given = run(*calls, counts(), roots())
+        self.assertEqual(given[1], [2, 1500, 1, HUGE, 499] + joined(people) + [0])
+        self.assertEqual(given[2], [499] + joined(people))
+        self.assertEqual(given[3], [499] + list(range(1, 500)))
+        self.assertEqual(given[1:4] * 49, given[1:148])
+
+    def test_within_few_calls_of_one_another(self):
+        # What's nested deep is gone through by loops, so little room for calls within one another is enough.
+        deep = joined([load(99, chain(40)), told(), counts(), line(1), path(1), kin(1, 1), alike(1, 1), members(1),
+                       family(1), load(HUGE, chain(290)), leave(1), counts()])
+        wanted = answers(deep)
+        limit = sys.getrecursionlimit()
+        sys.setrecursionlimit(frames_here() + 25)
+        try:
+            given = answers(deep)
+        finally:
+            sys.setrecursionlimit(limit)
+        self.assertEqual(given, wanted)
+
+
+def frames_here():
+    frame = sys._getframe()
+    count = 0
+    while frame is not None:
+        count += 1
+        frame = frame.f_back
+    return count
 
 
 if __name__ == "__main__":

@@ -53,6 +53,25 @@ def bound_names(node):
     return []
 
 
+def top_names(tree):
+    names = []
+    for node in tree.body:
+        if isinstance(node, ast.ImportFrom):
+            names += [one.name for one in node.names]
+        elif isinstance(node, ast.Assign):
+            names.append(node.targets[0].id)
+        else:
+            names += bound_names(node)
+    return names
+
+
+def called(node):
+    """The name or the method that's called, if it is a call."""
+    if not isinstance(node, ast.Call):
+        return None
+    return node.func.id if isinstance(node.func, ast.Name) else node.func.attr
+
+
 class Language(unittest.TestCase):
     def test_files(self):
         self.assertIn("__init__.py", [path.name for path in package_files()])
@@ -152,6 +171,78 @@ class Language(unittest.TestCase):
                     defined += [part.targets[0].id for part in home.body if isinstance(part, ast.Assign)]
                     for one in node.names:
                         self.assertIn(one.name, defined, name)
+
+    def test_the_top_of_a_module(self):
+        for name, tree in package_trees():
+            kinds = (ast.FunctionDef, ast.ClassDef, ast.ImportFrom, ast.Assign)
+            self.assertEqual([node for node in tree.body[1:] if not isinstance(node, kinds)], [], name)
+            self.assertIsNotNone(ast.get_docstring(tree), name)
+            self.assertEqual(len(set(top_names(tree))), len(top_names(tree)), name)
+
+    def test_locals_are_not_called_like_what_stands_at_the_top(self):
+        for name, tree in package_trees():
+            for part in tree.body:
+                if isinstance(part, (ast.FunctionDef, ast.ClassDef)):
+                    own = [bound for node in ast.walk(part) if not isinstance(node, (ast.FunctionDef, ast.ClassDef))
+                           for bound in bound_names(node)]
+                    self.assertEqual([bound for bound in own if bound in top_names(tree)], [], (name, part.name))
+
+    def test_values_are_given_through_a_local_name(self):
+        for name, node in all_nodes():
+            if isinstance(node, ast.Attribute) and isinstance(node.ctx, ast.Store):
+                self.assertIsInstance(node.value, ast.Name, (name, node.lineno))
+                self.assertTrue(node.value.id.islower(), (name, node.lineno))
+
+    def test_keywords(self):
+        free = {"sorted": ("key", "reverse"), "min": ("key", "default"), "max": ("key", "default"), "sum": ("start",),
+                "enumerate": ("start",), "zip": ("strict",)}
+        for name, node in all_nodes():
+            if isinstance(node, ast.Call) and node.keywords:
+                self.assertIsInstance(node.func, ast.Name, (name, node.lineno))
+                for keyword in node.keywords:
+                    self.assertIn(keyword.arg, free.get(node.func.id, ()), (name, node.lineno))
+
+    def test_walked_at_once(self):
+        walkers = ("list", "tuple", "dict", "sorted", "sum", "any", "all", "enumerate", "zip", "min", "max")
+        for name, tree in package_trees():
+            walked = [node.iter for node in ast.walk(tree) if isinstance(node, (ast.For, ast.comprehension))]
+            walked += [node.args[0] for node in ast.walk(tree)
+                       if isinstance(node, ast.Call) and called(node) in walkers and node.args]
+            for node in ast.walk(tree):
+                if called(node) in ("zip", "enumerate", "reversed", "range", "items", "keys", "values"):
+                    self.assertIn(node, walked, (name, node.lineno))
+
+    def test_sets_are_asked_on_the_spot(self):
+        for name, tree in package_trees():
+            asked = [part for node in ast.walk(tree) if called(node) in ("len", "sorted") for part in node.args]
+            asked += [part for node in ast.walk(tree) if isinstance(node, ast.Compare)
+                      for part in [node.left] + node.comparators]
+            for node in ast.walk(tree):
+                self.assertNotIsInstance(node, ast.Set, name)
+                if called(node) in ("set", "frozenset"):
+                    self.assertIn(node, asked, (name, node.lineno))
+
+    def test_errors(self):
+        own = [node.name for name, node in all_nodes() if isinstance(node, ast.ClassDef) and node.bases]
+        for name, node in all_nodes():
+            if isinstance(node, ast.ExceptHandler):
+                self.assertIn(node.type.id, own, (name, node.lineno))
+            if isinstance(node, ast.Raise):
+                self.assertIn(called(node.exc), own, (name, node.lineno))
+            if isinstance(node, ast.ClassDef) and node.bases:
+                self.assertEqual([base.id for base in node.bases], ["Exception"], name)
+
+    def test_is_stands_beside_none_true_and_false_alone(self):
+        for name, node in all_nodes():
+            if isinstance(node, ast.Compare) and any(isinstance(op, (ast.Is, ast.IsNot)) for op in node.ops):
+                self.assertTrue(any(isinstance(part, ast.Constant) for part in [node.left] + node.comparators), name)
+
+    def test_no_lists_or_dicts_within_those_at_the_top(self):
+        for name, tree in package_trees():
+            for node in tree.body:
+                if isinstance(node, ast.Assign) and isinstance(node.value, (ast.List, ast.Dict)):
+                    nested = [part for part in ast.walk(node.value) if isinstance(part, (ast.List, ast.Dict))]
+                    self.assertEqual(nested, [node.value], (name, node.lineno))
 
 
 if __name__ == "__main__":

@@ -4,13 +4,11 @@ import unittest
 
 from kinfolds.families import answers
 from tests.helping import (
-    HUGE, NOBODY_OFF, TOP_ID, Calls, adopt, assemble, born, close, family, found, gather, leave, match, muster, off,
-    person, recall, run, split,
+    HUGE, NOBODY_OFF, OUT_OF_IDS, OUT_OF_PLACES, TOP_ID, Calls, adopt, assemble, born, close, family, found, gather,
+    leave, match, muster, off, person, recall, run, split,
 )
 
 FIVE = [born(1), split(1, 2, 3, 4, 5)]
-OUT_OF_IDS = (0, -1, TOP_ID + 1, HUGE, -HUGE)
-OUT_OF_PLACES = (-1, 1000, HUGE, -HUGE)
 OUT_OF_COUNTS = (0, -1, 1001, HUGE, -HUGE)
 
 
